@@ -1,0 +1,1 @@
+"""Tiercask: wine in tiers of casks, told to the last fraction."""
