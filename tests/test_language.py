@@ -1,6 +1,7 @@
-"""Holds the package's files against those rules of ../shared/LANGUAGE.md that can be seen in a file by itself.
+"""Holds the package's files against a part of the rules of ../shared/LANGUAGE.md.
 
-The numbers in the findings are the rules' own. What a rule says beyond this is looked at by eye.
+The numbers in the findings are the rules' own. Rules without a finding here (L11, L13, L18, L21 to L24, L26, L28
+among them), and what a rule says beyond its finding, are looked at by eye.
 """
 
 import ast
