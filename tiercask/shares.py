@@ -38,20 +38,32 @@ def fraction(top, bottom):
 
 
 def plus(one, other):
-    return fraction(one[0] * other[1] + other[0] * one[1], one[1] * other[1])
+    # Fractions are in lowest terms, so only what both bottoms share can cut the sum:
+    # dividing by that first keeps the numbers small that are divided.
+    shared = common_divisor(one[1], other[1])
+    rest = one[1] // shared
+    top = one[0] * (other[1] // shared) + other[0] * rest
+    divisor = common_divisor(top, shared)
+    return (top // divisor, rest * (other[1] // divisor))
 
 
 def minus(one, other):
-    return fraction(one[0] * other[1] - other[0] * one[1], one[1] * other[1])
+    return plus(one, (0 - other[0], other[1]))
 
 
 def times(one, other):
-    return fraction(one[0] * other[0], one[1] * other[1])
+    # Likewise only a top and the other one's bottom can be cut.
+    left = common_divisor(one[0], other[1])
+    right = common_divisor(other[0], one[1])
+    return ((one[0] // left) * (other[0] // right), (one[1] // right) * (other[1] // left))
 
 
 def over(one, other):
-    # A quotient by (0, 1) has a bottom of 0, so it is refused as it is made.
-    return fraction(one[0] * other[1], one[1] * other[0])
+    if other[0] == 0:
+        raise NoNumber("nothing is divided by 0")
+    if other[0] < 0:
+        return times(one, (0 - other[1], 0 - other[0]))
+    return times(one, (other[1], other[0]))
 
 
 def under(one, other):
