@@ -75,3 +75,24 @@ def pour_step(standing, step):
         wine = standing[step[1]]
         standing[step[1]] = part_of(wine, minus((1, 1), step[3]))
         standing[step[2]] = poured(standing[step[2]], part_of(wine, step[3]))
+
+
+def steps_of(house, totals, year, deeds):
+    rooms = rooms_of(house)
+    now = dict(totals)
+    steps = []
+    for at, deed in enumerate(deeds):
+        if deed[0] == "year":
+            year += 1
+        else:
+            step = step_of(deed, at, year, now, rooms)
+            add_step(now, step)
+            steps.append(step)
+    return (steps, now)
+
+
+def gone(standing, steps):
+    now = copied(standing)
+    for step in steps:
+        pour_step(now, step)
+    return now
