@@ -176,8 +176,18 @@ class RowsTest(DeskTest):
         self.assertEqual(desk.say("blend fine 5001/1000 a 1 b 2"), "none")
         self.assertEqual(desk.say("blend fine 1 c 0"), "none")
         self.assertEqual(desk.say("blend fine 1 c 0 a 7/3"), "2/5 3/5")
+        self.assertEqual(desk.say("blend fine 1 c 0 a 1/1000"), "2/5 3/5")
         self.assertEqual(desk.say("label all least 0 name x"), "ok")
         self.assertEqual(desk.say("blend all 1/3 c 9"), "1/3")
+
+
+    def test_eight_pairs(self):
+        desk = desk_of(*[f"cask {letter} 2" for letter in "abcdefghi"], "label all mean 0",
+                       "run " + "; ".join([f"bring x {letter} 1" for letter in "abcdefghi"]))
+        row = "blend all 15/2" + "".join([f" {letter} {price}" for price, letter in enumerate("abcdefgh")])
+        self.assertEqual(desk.say(row), "1 1 1 1 1 1 1 1/2")
+        self.refused("NoRow", desk, row + " i 9")
+        self.refused("NoRow", desk, row + " i")
 
 
 class NoRowTest(DeskTest):
@@ -234,7 +244,7 @@ class NoRowTest(DeskTest):
                            "mean 1; ; mean 2", "mean 1; x", "least 1 years 1", "least 1 years", "least 1 years 1 2 3", "least 1 old",
                            "least 1 old 1 2", "least 1 both name a", "least 1 both", "least 1 one name a", "least 1 not",
                            "least 1 not not", "least 1 not name a name b", "least 1 both name a name b name c", "least 1 name 1",
-                           "Least 1 name a", "least 1 Name a", "least 1 x a", "mean 1; mean 1; mean 1; mean 1; mean 1; mean 1",
+                           "Least 1 name a", "least 1 Name a", "least 1 x a", "least 1 x name a name b", "x 1 name a", "mean 1; mean 1; mean 1; mean 1; mean 1; mean 1",
                            "least 1 " + "not " * 19 + "name a", "least 1 " + "one name x " * 6 + "not name gamay x",
                            "least 1 " + "both " * 19 + "name a", "all name a"]:
             self.refused("NoRow", desk, f"label good {conditions}")

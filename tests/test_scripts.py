@@ -201,6 +201,13 @@ class OpenedTest(unittest.TestCase):
                 opened(HOUSE, one)
         self.assertEqual(len(opened(HOUSE, script(times(50, times(4, ("year",)))))), 200)
 
+    def test_200_in_a_rule(self):
+        rules = [rule("r", "p", times(50, ("year",), ("all", "p", "b"), ("year",), ("year",))), rule("s", "p", do("r", "p"))]
+        deeds = [("year",), ("all", "a", "b"), ("year",), ("year",)] * 50
+        self.assertEqual(opened(HOUSE, script(do("s", "a"), rules=rules)), deeds)
+        with self.assertRaises(TooMany):
+            opened(HOUSE, script(do("s", "a"), ("year",), rules=rules))
+
     def test_far_too_many(self):
         rules = [rule("r", "p", ("year",))]
         for k in range(96):

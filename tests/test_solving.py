@@ -6,6 +6,25 @@ from plainly import chances, pair
 from tiercask.solving import lowered, solved
 
 
+RINGS = [
+    ([5, 0], [
+        [(0, 1), (2, 1), (-1, 1), (-6, 1), (1, 3), (1, 1), (0, 1)],
+        [(1, 1), (1, 1), (-4, 3), (-6, 1), (4, 1), (0, 1), (0, 1)],
+        [(0, 1), (2, 1), (4, 1), (3, 1), (-2, 1), (0, 1), (0, 1)],
+    ]),
+    ([0, 5], [
+        [(1, 1), (4, 1), (-2, 1), (-2, 1), (1, 1), (0, 1), (0, 1)],
+        [(0, 1), (1, 3), (-1, 1), (-2, 1), (6, 1), (1, 1), (0, 1)],
+        [(0, 1), (-3, 1), (5, 1), (2, 1), (1, 1), (0, 1), (0, 1)],
+    ]),
+    ([5, 1], [
+        [(3, 1), (0, 1), (3, 1), (1, 2), (-1, 1), (1, 1), (0, 1)],
+        [(3, 1), (1, 1), (4, 1), (6, 1), (1, 1), (0, 1), (0, 1)],
+        [(2, 1), (0, 1), (1, 1), (-2, 1), (-2, 1), (0, 1), (0, 1)],
+    ]),
+]
+
+
 class SolvedTest(unittest.TestCase):
     def test_equations(self):
         self.assertEqual(solved([]), [])
@@ -36,6 +55,15 @@ class LoweredTest(unittest.TestCase):
         told, basis = lowered(rows, [4, 5, 6], 7)
         self.assertEqual(told[3][7], (1, 20))
         self.assertEqual(sorted(basis)[0], 0)
+
+    def test_it_ends_where_another_choice_of_rows_turns_in_a_ring(self):
+        # Rows that all come to 0: if of those that bind alike always the first, the last, or the one that holds the
+        # last column is taken, the basis comes back to where it began.
+        for basis, rows in RINGS:
+            with self.subTest(basis=basis):
+                told, last = lowered(rows, basis, len(rows[0]) - 1)
+                self.assertTrue(all(cost[0] >= 0 for cost in told[-1]))
+                self.assertEqual(len(set(last)), len(basis))
 
 
 if __name__ == "__main__":

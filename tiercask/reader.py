@@ -13,7 +13,6 @@ MOST_TIMES = 60
 
 
 def whole_read(word):
-    # The whole number that a word is, or None.
     if len(word) < 1 or len(word) > MOST_FIGURES:
         return None
     if not all([figure in FIGURES for figure in word]):
@@ -24,7 +23,6 @@ def whole_read(word):
 
 
 def number_read(word):
-    # The fraction that a word is, or None.
     parts = word.split("/")
     top = whole_read(parts[0])
     if top is None or len(parts) > 2:
@@ -38,7 +36,6 @@ def number_read(word):
 
 
 def amount_read(word):
-    # The fraction above 0 that a word is, or None.
     amount = number_read(word)
     if amount is None or amount[0] == 0:
         return None
@@ -46,7 +43,6 @@ def amount_read(word):
 
 
 def share_read(word):
-    # The fraction from 0 to 1 that a word is, or None.
     share = number_read(word)
     if share is None or share[0] > share[1]:
         return None

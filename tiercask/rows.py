@@ -85,7 +85,6 @@ def blend_read(words):
 
 
 def row_read(row):
-    # The first word, and what stands behind it as values, or NoRow.
     if not isinstance(row, str) or "\n" in row:
         raise NoRow("a row is a text of one row")
     if row.startswith("run "):

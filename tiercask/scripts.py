@@ -20,7 +20,7 @@ def kinds_of(house):
 
 
 def wanted(deed):
-    # The places of a plain deed in the order of its words, each with whether a cask is wanted.
+    # In the order of the words, since the first fault is the one that is told.
     if deed[0] == "year":
         return []
     if deed[0] == "bring":
@@ -112,8 +112,7 @@ def unrolled(deeds, stead, bodies):
 
 
 def bodies_of(rules, counts):
-    # The plain deeds of each rule, with the numbers of its params in their stead.
-    # Numbers, so that a param is never taken for a place of the house that has its name.
+    # Numbers stand for params, so that none is taken for a place of the house that has its name.
     bodies = {}
     for rule in rules:
         if counts[rule[0]] <= MOST_DEEDS:

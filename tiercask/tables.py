@@ -5,7 +5,6 @@ from tiercask.wines import part_of, poured
 
 
 def unmoved(names):
-    # The table without passes.
     rows = {}
     for name in names:
         rows[name] = {name: (1, 1)}
@@ -13,7 +12,7 @@ def unmoved(names):
 
 
 def add_shares(ends, shares, factor):
-    # Adds shares times a factor to ends, which it changes; no share of 0 comes in.
+    # A factor of 0 would bring in shares of 0, and a table has none.
     if factor != (0, 1):
         for place, share in shares.items():
             ends[place] = plus(ends.get(place, (0, 1)), times(share, factor))

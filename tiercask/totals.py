@@ -33,7 +33,6 @@ def check_room(name, amount, at, totals, rooms):
 
 
 def share_of(deed, at, totals, rooms):
-    # The share of x that goes to y by a move, part, all or fill.
     if deed[0] == "part":
         return deed[3]
     if deed[0] == "all":
@@ -48,7 +47,7 @@ def share_of(deed, at, totals, rooms):
 
 
 def step_of(deed, at, year, totals, rooms):
-    # The step of a deed other than year, or its refusal; all that it hangs on are totals.
+    # It hangs on totals alone, so what comes of it for one wine comes of it for every other.
     if deed[0] == "bring":
         check_room(deed[2], deed[3], at, totals, rooms)
         return ("bring", (deed[1], year), deed[2], deed[3])
@@ -58,7 +57,6 @@ def step_of(deed, at, year, totals, rooms):
 
 
 def add_step(totals, step):
-    # Changes totals as a step does.
     if step[0] == "bring":
         totals[step[2]] = plus(totals[step[2]], step[3])
     else:
@@ -68,7 +66,7 @@ def add_step(totals, step):
 
 
 def pour_step(standing, step):
-    # Changes a standing as a step does, by new wines in the stead of those that stood.
+    # New wines come in the stead of those that stood, since others may hold these.
     if step[0] == "bring":
         standing[step[2]] = poured(standing[step[2]], {step[1]: step[3]})
     else:
