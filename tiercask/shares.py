@@ -61,8 +61,7 @@ def times(one, other):
 def over(one, other):
     if other[0] == 0:
         raise NoNumber("nothing is divided by 0")
-    if other[0] < 0:
-        return times(one, (0 - other[1], 0 - other[0]))
+    # A bottom below 0 comes out above 0, as what is divided by has its sign.
     return times(one, (other[1], other[0]))
 
 
